@@ -8,20 +8,15 @@ import (
 	"garrison/label"
 )
 
-// keys: the words ahead of a label's numbers, in the order of amounts.
+// keys: the words ahead of a label's numbers, in their order.
 var keys = [...]string{"blocks", "nodes", "frames", "procs", "opens"}
 
 // The words of a label's line: label, name, label; a key and a number each; clear, name.
 const (
 	keysAt  = 3
-	clearAt = keysAt + 2*len(keys)
-	inLabel = clearAt + 2
+	clearAt = 13
+	inLabel = 15
 )
-
-// amounts: where a label's numbers stand, in the order of keys.
-func amounts(r *api.Reg) [len(keys)]*int {
-	return [...]*int{&r.Blocks, &r.Nodes, &r.Frames, &r.Procs, &r.Opens}
-}
 
 // text is what a configuration's lines say: names that they mention are found when all of them are read.
 type text struct {
@@ -84,15 +79,15 @@ func (t *text) readLabel(words []string) api.Errno {
 	if e != api.OK {
 		return e
 	}
-	r := api.Reg{Name: words[1], Label: l}
-	for i, p := range amounts(&r) {
-		n, ok := number(words[keysAt+2*i+1])
+	var n [5]int
+	for i := range n {
+		m, ok := number(words[keysAt+2*i+1])
 		if words[keysAt+2*i] != keys[i] || !ok {
 			return api.ErrForm
 		}
-		*p = n
+		n[i] = m
 	}
-	t.regs = append(t.regs, r)
+	t.regs = append(t.regs, api.Reg{Name: words[1], Label: l, Blocks: n[0], Nodes: n[1], Frames: n[2], Procs: n[3], Opens: n[4]})
 	t.clears = append(t.clears, words[clearAt+1])
 	return api.OK
 }
@@ -161,8 +156,8 @@ func (c *Conf) Text() string {
 	var b strings.Builder
 	for _, r := range c.regs {
 		b.WriteString("label " + r.Name + " " + label.Text(r.Label))
-		for i, p := range amounts(&r) {
-			b.WriteString(" " + keys[i] + " " + strconv.Itoa(*p))
+		for i, n := range [...]int{r.Blocks, r.Nodes, r.Frames, r.Procs, r.Opens} {
+			b.WriteString(" " + keys[i] + " " + strconv.Itoa(n))
 		}
 		b.WriteString(" clear " + c.regs[r.Clear].Name + "\n")
 	}
